@@ -73,9 +73,16 @@ var badBuffers = []struct {
 	{"too many ahead of Next 0", api.Buffer{Held: held(70001, 70002, 70003, 70004, 70005)}, api.ErrMany},
 	{"the first wrong slot tells: Text", api.Buffer{Next: 70000, Held: []api.Slot{long, wrongSeq}}, api.ErrMany},
 	{"the first wrong slot tells: Seq", api.Buffer{Next: 70000, Held: []api.Slot{wrongSeq, long}}, api.ErrState},
-	{"slots ahead of what does not rise", api.Buffer{Next: 70000, Held: []api.Slot{at(70003, ""), at(70002, ""), long}}, api.ErrMany},
-	{"slots ahead of what is not more than Next", api.Buffer{Next: 70005, Held: []api.Slot{at(70003, ""), {}}}, api.ErrRange},
-	{"slots ahead of Next 0", api.Buffer{Held: []api.Slot{long}}, api.ErrMany},
+	{"the first wrong slot tells: it does not rise", api.Buffer{Next: 70000, Held: []api.Slot{at(70003, ""), at(70002, ""), long}}, api.ErrState},
+	{"the first wrong slot tells: it is there twice", api.Buffer{Next: 70000, Held: []api.Slot{at(70002, ""), at(70002, ""), {}}}, api.ErrState},
+	{"the first wrong slot tells: it is Next", api.Buffer{Next: 70000, Held: []api.Slot{at(70000, ""), at(5, "")}}, api.ErrState},
+	{"the first wrong slot tells: it is less than Next", api.Buffer{Next: 70005, Held: []api.Slot{at(70003, ""), {}}}, api.ErrState},
+	{"the first wrong slot tells: it is no number", api.Buffer{Next: 70000, Held: []api.Slot{at(5, ""), at(4, "")}}, api.ErrRange},
+	{"the first wrong slot tells: the next one does not rise", api.Buffer{Next: 70000, Held: []api.Slot{long, at(70001, "")}}, api.ErrMany},
+	{"of one slot its own error ahead of one that does not rise", api.Buffer{Next: 70000, Held: []api.Slot{at(70009, ""), long}}, api.ErrMany},
+	{"of one slot its own error ahead of one that is not more than Next", api.Buffer{Next: 70001, Held: []api.Slot{long}}, api.ErrMany},
+	{"a slot ahead of Next 0", api.Buffer{Held: []api.Slot{long}}, api.ErrMany},
+	{"the last slot ahead of Next 0", api.Buffer{Held: []api.Slot{at(70000, ""), long}}, api.ErrMany},
 }
 
 var goodBuffers = []api.Buffer{
@@ -114,6 +121,49 @@ func TestC1CheckTellsWhatIsWrong(t *testing.T) {
 	for _, c := range badBuffers {
 		if got := buffer.Check(c.b); got != c.want {
 			t.Errorf("%s: Check is %d, want %d", c.name, got, c.want)
+		}
+	}
+}
+
+// wrongOf held slots: each error of each one, those of the first slot first, then what is wrong of all.
+func wrongOf(b api.Buffer) []api.Errno {
+	var wrong []api.Errno
+	say := func(is bool, e api.Errno) {
+		if is {
+			wrong = append(wrong, e)
+		}
+	}
+	for i, x := range b.Held {
+		say(x.N < api.MinN || x.N > api.MaxN, api.ErrRange)
+		say(len(x.P.Text) > api.MaxBytes, api.ErrMany)
+		say(x.P.Seq != x.N%65536, api.ErrState)
+		say(i > 0 && x.N <= b.Held[max(i, 1)-1].N || x.N <= b.Next, api.ErrState)
+	}
+	say(b.Next == 0 && len(b.Held) > 0, api.ErrState)
+	return append(wrong, api.OK)
+}
+
+// TestC1TheFirstWrongSlotTells: all ways in which three slots are held, each right or wrong by itself and in its place.
+func TestC1TheFirstWrongSlotTells(t *testing.T) {
+	var kinds []api.Slot
+	for _, n := range []int{5, 70000, 70001, 70002, 70003, api.MaxN + 1} {
+		other := at(n, "h")
+		other.P.Seq = 9
+		kinds = append(kinds, at(n, "h"), at(n, "123456789"), other)
+	}
+	for _, next := range []int{0, 70000, 70001, 70002} {
+		for _, x := range kinds {
+			for _, y := range kinds {
+				for _, z := range kinds {
+					b := api.Buffer{Next: next, Held: []api.Slot{x, y, z}}
+					want := wrongOf(b)[0]
+					_, _, put := buffer.Put(b, at(70000, ""))
+					_, _, flush := buffer.Flush(b)
+					if check := buffer.Check(b); check != want || put != want || flush != want {
+						t.Fatalf("%+v: Check is %d, Put %d, Flush %d, want %d", b, check, put, flush, want)
+					}
+				}
+			}
 		}
 	}
 }

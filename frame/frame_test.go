@@ -91,9 +91,16 @@ var badBuilders = []struct {
 	{"another last time", open(at(70000, 5, "f", ""), at(70001, 5, "", ""), at(70002, 6, "", "")), api.ErrState},
 	{"many ahead of slots", api.Builder{Open: make([]api.Slot, 4)}, api.ErrMany},
 	{"the first wrong slot tells", open(at(70000, 5, "f", "123456789"), api.Slot{}), api.ErrMany},
-	{"slots ahead of the first one", open(at(70000, 5, "", ""), at(70001, 5, "", "123456789")), api.ErrMany},
-	{"slots ahead of End", open(at(70000, 5, "fe", ""), api.Slot{}), api.ErrRange},
-	{"slots ahead of numbers", open(at(70000, 5, "f", ""), at(70002, 5, "", ""), at(70003, 5, "", "123456789")), api.ErrMany},
+	{"the first wrong slot tells: it is not First", open(at(70000, 5, "", ""), at(70001, 5, "", "123456789")), api.ErrState},
+	{"the first wrong slot tells: it is End", open(at(70000, 5, "fe", ""), api.Slot{}), api.ErrState},
+	{"the first wrong slot tells: another one is First", open(at(70000, 5, "f", ""), at(70001, 5, "f", ""), at(70002, 5, "", "123456789")), api.ErrState},
+	{"the first wrong slot tells: another one is End", open(at(70000, 5, "f", ""), at(70001, 5, "e", ""), api.Slot{}), api.ErrState},
+	{"the first wrong slot tells: its number does not follow", open(at(70000, 5, "f", ""), at(70002, 5, "", ""), at(70003, 5, "", "123456789")), api.ErrState},
+	{"the first wrong slot tells: its time is another", open(at(70000, 5, "f", ""), at(70001, 6, "", ""), at(70002, 6, "", "123456789")), api.ErrState},
+	{"the first wrong slot tells: it has no number", open(at(5, 5, "f", ""), at(6, 5, "f", "")), api.ErrRange},
+	{"of one slot its own error ahead of First", open(at(70000, 5, "", "123456789")), api.ErrMany},
+	{"of one slot its own error ahead of End", open(at(70000, 5, "f", ""), at(70001, 5, "e", "123456789")), api.ErrMany},
+	{"of one slot its own error ahead of what does not follow", open(at(70000, 5, "f", ""), at(70002, 5, "", "123456789")), api.ErrMany},
 }
 
 var badSlots = []struct {
@@ -114,6 +121,48 @@ func TestD1ErrorsOfTheBuilder(t *testing.T) {
 		for _, x := range []api.Slot{at(70003, 5, "e", ""), at(70003, 5, "fe", ""), {}, at(70001, 5, "", "123456789")} {
 			if b, f, whole, e := frame.Add(c.b, x); e != c.want || !isZero(b, f, whole) {
 				t.Errorf("%s: Add is %+v %+v %v %d, want nothing and %d", c.name, b, f, whole, e, c.want)
+			}
+		}
+	}
+}
+
+// wrongOf open slots: each error of each one, those of the first slot first.
+func wrongOf(open []api.Slot) []api.Errno {
+	var wrong []api.Errno
+	say := func(is bool, e api.Errno) {
+		if is {
+			wrong = append(wrong, e)
+		}
+	}
+	for i, x := range open {
+		first, ahead := open[0], open[max(i, 1)-1]
+		say(x.N < api.MinN || x.N > api.MaxN, api.ErrRange)
+		say(len(x.P.Text) > api.MaxBytes, api.ErrMany)
+		say(i == 0 && !x.P.First, api.ErrState)
+		say(i > 0 && x.P.First, api.ErrState)
+		say(x.P.End, api.ErrState)
+		say(i > 0 && x.N != ahead.N+1, api.ErrState)
+		say(x.P.Time != first.P.Time, api.ErrState)
+	}
+	return append(wrong, api.OK)
+}
+
+// TestD1TheFirstWrongSlotTells: all ways in which three slots are open, each right or wrong by itself and in its place.
+func TestD1TheFirstWrongSlotTells(t *testing.T) {
+	var kinds []api.Slot
+	for _, n := range []int{5, 70000, 70001, 70002} {
+		for _, how := range []string{"", "f", "e", "fe"} {
+			kinds = append(kinds, at(n, 5, how, ""), at(n, 6, how, ""), at(n, 5, how, "123456789"))
+		}
+	}
+	for _, x := range kinds {
+		for _, y := range kinds {
+			for _, z := range kinds {
+				b := open(x, y, z)
+				want := wrongOf(b.Open)[0]
+				if _, _, _, e := frame.Add(b, at(70003, 5, "f", "")); e != want {
+					t.Fatalf("Add to %+v is %d, want %d", b, e, want)
+				}
 			}
 		}
 	}

@@ -1,8 +1,6 @@
 package frame
 
 import (
-	"slices"
-
 	"switchback/api"
 	"switchback/slot"
 )
@@ -12,23 +10,13 @@ func checkBuilder(b api.Builder) api.Errno {
 	if len(b.Open) >= api.MaxParts {
 		return api.ErrMany
 	}
-	if e := slot.CheckAll(b.Open); e != api.OK {
-		return e
-	}
-	if !isBegun(b.Open) {
-		return api.ErrState
-	}
-	return api.OK
+	return slot.CheckAll(b.Open, func(i int) bool { return isBegun(b.Open, i) })
 }
 
-// isBegun tells whether slots may be the beginning of a frame that has not come to its end.
-func isBegun(open []api.Slot) bool {
-	for i, x := range open {
-		if x.P.First != (i == 0) || i > 0 && !follows(open[i-1], x) {
-			return false
-		}
-	}
-	return !slices.ContainsFunc(open, func(x api.Slot) bool { return x.P.End })
+// isBegun tells whether the slot at i goes on with, or at 0 begins, a frame that has not come to its end.
+func isBegun(open []api.Slot, i int) bool {
+	p := open[i].P
+	return p.First == (i == 0) && !p.End && (i == 0 || follows(open[i-1], open[i]))
 }
 
 // follows tells whether x is of the same picture as the slot that came ahead of it, and just behind it.

@@ -24,11 +24,15 @@ func Check(x api.Slot) api.Errno {
 	return api.OK
 }
 
-// CheckAll slots, one by one: the first error.
-func CheckAll(l []api.Slot) api.Errno {
-	for _, x := range l {
+// CheckAll slots, and whether the one at each place fits there (ErrState, if not).
+// Both are asked of one slot ahead of the next, because the first slot of which something is wrong tells (P1).
+func CheckAll(l []api.Slot, fits func(i int) bool) api.Errno {
+	for i, x := range l {
 		if e := Check(x); e != api.OK {
 			return e
+		}
+		if !fits(i) {
+			return api.ErrState
 		}
 	}
 	return api.OK

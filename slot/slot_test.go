@@ -60,20 +60,29 @@ func TestC1SlotIsNotRight(t *testing.T) {
 }
 
 func TestC1OneByOneTheFirstErrorTells(t *testing.T) {
-	long, wrong := at(70000, "123456789"), api.Slot{N: 70000}
+	good, long, wrong := at(70000, ""), at(70000, "123456789"), api.Slot{N: 70000}
 	for _, c := range []struct {
-		l    []api.Slot
-		want api.Errno
+		l     []api.Slot
+		unfit int // the place at which a slot does not fit
+		want  api.Errno
 	}{
-		{nil, api.OK},
-		{[]api.Slot{at(70000, ""), at(70000, "")}, api.OK},
-		{[]api.Slot{at(70000, ""), long, wrong}, api.ErrMany},
-		{[]api.Slot{at(70000, ""), wrong, long}, api.ErrState},
-		{[]api.Slot{at(70000, ""), wrong, {}}, api.ErrState},
-		{[]api.Slot{{}, wrong, long}, api.ErrRange},
+		{nil, 0, api.OK},
+		{[]api.Slot{good, good}, 2, api.OK},
+		{[]api.Slot{good, long, wrong}, 3, api.ErrMany},
+		{[]api.Slot{good, wrong, long}, 3, api.ErrState},
+		{[]api.Slot{good, wrong, {}}, 3, api.ErrState},
+		{[]api.Slot{{}, wrong, long}, 3, api.ErrRange},
+		{[]api.Slot{good}, 0, api.ErrState},
+		{[]api.Slot{good, good}, 1, api.ErrState},
+		{[]api.Slot{good, long}, 0, api.ErrState},
+		{[]api.Slot{good, good, {}}, 1, api.ErrState},
+		{[]api.Slot{good, long}, 1, api.ErrMany},
+		{[]api.Slot{good, {}, long}, 1, api.ErrRange},
+		{[]api.Slot{long, good}, 1, api.ErrMany},
+		{[]api.Slot{{}, good, long}, 1, api.ErrRange},
 	} {
-		if got := slot.CheckAll(c.l); got != c.want {
-			t.Errorf("CheckAll of %+v is %d, want %d", c.l, got, c.want)
+		if got := slot.CheckAll(c.l, func(i int) bool { return i != c.unfit }); got != c.want {
+			t.Errorf("CheckAll of %+v, unfit at %d, is %d, want %d", c.l, c.unfit, got, c.want)
 		}
 	}
 }
