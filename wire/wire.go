@@ -1,7 +1,10 @@
 // Package wire: packets as bytes: see doc/01-wire.md.
 package wire
 
-import "switchback/api"
+import (
+	"switchback/api"
+	"switchback/raw"
+)
 
 // The first byte of every packet is mark and the sum of its flags.
 const (
@@ -40,26 +43,26 @@ func Encode(p api.Packet) (string, api.Errno) {
 	if e := Check(p); e != api.OK {
 		return "", e
 	}
-	var b []byte
-	b = appendNumber(b, mark+sumOf(p.First, p.End, p.Key), headBytes)
-	b = appendNumber(b, p.Seq, seqBytes)
-	b = appendNumber(b, p.Time, timeBytes)
-	b = appendNumber(b, len(p.Text), countBytes)
-	b = append(b, p.Text...)
-	return string(b), api.OK
+	var w raw.Writer
+	w.Number(mark+sumOf(p.First, p.End, p.Key), headBytes)
+	w.Number(p.Seq, seqBytes)
+	w.Number(p.Time, timeBytes)
+	w.Number(len(p.Text), countBytes)
+	w.Text(p.Text)
+	return w.All(), api.OK
 }
 
 // Decode a packet.
 func Decode(s string) (api.Packet, api.Errno) {
 	var p api.Packet
 	var head int
-	whole := readWhole(s, func(r *reader) {
-		head = r.number(headBytes)
-		p.Seq = r.number(seqBytes)
-		p.Time = r.number(timeBytes)
-		p.Text = r.text(r.number(countBytes))
+	left, found := raw.Read(s, func(r *raw.Reader) {
+		head = r.Number(headBytes)
+		p.Seq = r.Number(seqBytes)
+		p.Time = r.Number(timeBytes)
+		p.Text = r.Text(r.Number(countBytes))
 	})
-	if !whole || head < mark || head > greatest {
+	if !found || left != "" || head < mark || head > greatest {
 		return api.Packet{}, api.ErrForm
 	}
 	p.First = head&firstFlag != 0
@@ -81,12 +84,4 @@ func sumOf(flags ...bool) int {
 		worth *= 2
 	}
 	return sum
-}
-
-// appendNumber puts the lowest bytes of n behind b, the greatest of them first.
-func appendNumber(b []byte, n, size int) []byte {
-	for i := size - 1; i >= 0; i-- {
-		b = append(b, byte(n>>(8*i)))
-	}
-	return b
 }
