@@ -1,10 +1,11 @@
-// Package clone: copies of pictures and groups, for answers, which share no memory with what was handed in (P2).
+// Package clone: copies of pictures, groups and tracks, for answers, which share no memory with what was handed in (P2).
 package clone
 
 import (
 	"strings"
 
 	"switchback/api"
+	"switchback/slot"
 )
 
 // Frame again, its bytes too.
@@ -21,6 +22,15 @@ func Group(g api.Group) api.Group {
 // Groups again.
 func Groups(l []api.Group) []api.Group {
 	return all(l, Group)
+}
+
+// Track again.
+func Track(t api.Track) api.Track {
+	t.Buffer.Held = slot.CopyAll(t.Buffer.Held)
+	t.Builder.Open = slot.CopyAll(t.Builder.Open)
+	t.Store.Groups = Groups(t.Store.Groups)
+	t.Store.Open = Group(t.Store.Open)
+	return t
 }
 
 // all of a list, each one again.

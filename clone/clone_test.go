@@ -19,6 +19,20 @@ func groups() []api.Group {
 	}
 }
 
+func slots() []api.Slot {
+	return []api.Slot{{N: 70000, P: api.Packet{Seq: 4464, Text: text("ij")}}, {N: 70001, P: api.Packet{Seq: 4465, Text: text("kl")}}}
+}
+
+// track with something in each of its lists.
+func track() api.Track {
+	return api.Track{
+		Last:    70009,
+		Buffer:  api.Buffer{Next: 70002, Held: slots()},
+		Builder: api.Builder{Open: slots()},
+		Store:   api.Store{First: 7, Groups: groups(), Open: groups()[0]},
+	}
+}
+
 func TestP2CopiesAreTheSame(t *testing.T) {
 	l := groups()
 	if got := clone.Groups(l); !reflect.DeepEqual(got, l) {
@@ -29,6 +43,9 @@ func TestP2CopiesAreTheSame(t *testing.T) {
 	}
 	if got := clone.Frame(l[0].Frames[0]); !reflect.DeepEqual(got, l[0].Frames[0]) {
 		t.Errorf("Frame of %+v is %+v", l[0].Frames[0], got)
+	}
+	if got := clone.Track(track()); !reflect.DeepEqual(got, track()) {
+		t.Errorf("Track of %+v is %+v", track(), got)
 	}
 }
 
@@ -41,6 +58,9 @@ func TestP2CopiesOfNothing(t *testing.T) {
 	}
 	if l := clone.Groups(nil); len(l) != 0 {
 		t.Errorf("Groups of nothing is %+v", l)
+	}
+	if x := clone.Track(api.Track{Last: 70000}); x.Last != 70000 || len(x.Buffer.Held)+len(x.Builder.Open)+len(x.Store.Groups)+len(x.Store.Open.Frames) != 0 {
+		t.Errorf("Track of nothing is %+v", x)
 	}
 }
 
@@ -73,6 +93,30 @@ func TestP2CopiesShareNothing(t *testing.T) {
 	scribble(l)
 	if !reflect.DeepEqual(one, groups()[0]) || !reflect.DeepEqual(f, groups()[0].Frames[0]) {
 		t.Errorf("a group, or a frame, shares memory with what was copied: %+v, %+v", one, f)
+	}
+}
+
+func TestP2CopiesOfATrackShareNothing(t *testing.T) {
+	x := track()
+	first, second := clone.Track(x), clone.Track(x)
+	scribble(first.Store.Groups)
+	scribble([]api.Group{first.Store.Open})
+	clear(first.Buffer.Held)
+	clear(first.Builder.Open)
+	for what, got := range map[string]api.Track{"what was copied": x, "the other copy": second} {
+		if !reflect.DeepEqual(got, track()) {
+			t.Errorf("%s shares memory with the copy: %+v", what, got)
+		}
+	}
+	for _, pair := range [][2]string{
+		{x.Buffer.Held[1].P.Text, second.Buffer.Held[1].P.Text},
+		{x.Builder.Open[1].P.Text, second.Builder.Open[1].P.Text},
+		{x.Store.Groups[1].Frames[0].Parts[0], second.Store.Groups[1].Frames[0].Parts[0]},
+		{x.Store.Open.Frames[1].Parts[0], second.Store.Open.Frames[1].Parts[0]},
+	} {
+		if unsafe.StringData(pair[0]) == unsafe.StringData(pair[1]) {
+			t.Errorf("%q shares memory with what was copied", pair[1])
+		}
 	}
 }
 
